@@ -1,0 +1,1 @@
+"""Claims kept as rows come and go: see claimskept.claims.answers."""

@@ -1,0 +1,87 @@
+"""Promises 5 and 6: status, breakers and alerts."""
+
+import unittest
+
+from tests.helper import alerts, breakers, claim, last, put, run, status, table, take
+
+TABLE = table("(table t ((n (up 10))) (1) (2) (1) (2) (1))")
+KEPT = [
+    TABLE,
+    claim(1, "ann", "(key t (n))"),
+    claim(0, "bob", "(each t (less (col n) 2))"),
+    claim(2, "ann", "(any t (same (col n) 9))"),
+    claim(2, "cid", "(each t (and))"),
+    claim(1, "cid", "(groups t (n) (count) 3 3)"),
+]
+
+
+class Status(unittest.TestCase):
+    def test_of_none(self):
+        self.assertEqual(last(status()), [0])
+        self.assertEqual(last(TABLE, status()), [0])
+
+    def test_each_claims_breakers_in_order(self):
+        self.assertEqual(last(*KEPT, status()), [5, 4, 2, 1, 0, 1])
+
+
+class Breakers(unittest.TestCase):
+    def test_each_claims(self):
+        self.assertEqual(last(*KEPT, breakers(0)), [4, 2, 0, 2, 2, 0, 4, 2, 1, 3, 2, 2, 4])
+        self.assertEqual(last(*KEPT, breakers(1)), [2, 1, 1, 1, 3])
+        self.assertEqual(last(*KEPT, breakers(2)), [1, 0])
+        self.assertEqual(last(*KEPT, breakers(3)), [0])
+        self.assertEqual(last(*KEPT, breakers(4)), [1, 2, 1, 3])
+
+    def test_in_order_behind_a_put(self):
+        self.assertEqual(last(*KEPT, put("t", "(2)"), breakers(0)),
+                         [6, 2, 0, 2, 2, 0, 4, 2, 1, 3, 2, 1, 5, 2, 2, 4, 2, 3, 5])
+
+    def test_groups_stand_by_their_first_rows(self):
+        calls = [TABLE, claim(0, "o", "(groups t (n) (count) 9 9)"), put("t", "(0)"), put("t", "(0)")]
+        self.assertEqual(last(*calls, breakers(0)), [3, 3, 0, 2, 4, 2, 1, 3, 2, 5, 6])
+        self.assertEqual(last(*calls, take(0, "t"), breakers(0)), [3, 2, 0, 2, 2, 1, 3, 2, 4, 5])
+
+    def test_the_most_that_there_can_be(self):
+        told = last(table("(table t ((n (up 2)))" + " (1)" * 40 + ")"), claim(0, "o", "(key t (n))"), breakers(0))
+        wanted = [780]
+        for first in range(40):
+            for second in range(first + 1, 40):
+                wanted.extend([2, first, second])
+        self.assertEqual(told, wanted)
+
+    def test_no_such_claim(self):
+        for number in [-1, 5, 6, 12, 10 ** 18, -10 ** 18]:
+            self.assertEqual(last(*KEPT, breakers(number)), [-3], number)
+        self.assertEqual(last(breakers(0)), [-3])
+
+
+class Alerts(unittest.TestCase):
+    def test_broken_ones_of_the_level_or_more(self):
+        self.assertEqual(last(*KEPT, alerts(0)), [4, 0, 1, 1, 0, 2, 2, 4, 1])
+        self.assertEqual(last(*KEPT, alerts(1)), [3, 0, 1, 2, 2, 4, 1])
+        self.assertEqual(last(*KEPT, alerts(2)), [1, 2, 2])
+
+    def test_of_none(self):
+        self.assertEqual(last(alerts(0)), [0])
+        self.assertEqual(last(TABLE, claim(2, "o", "(each t (and))"), alerts(0)), [0])
+
+    def test_as_rows_come_and_go(self):
+        calls = [*KEPT, put("t", "(9)"), alerts(2), take(5, "t"), alerts(2)]
+        self.assertEqual(run(*calls)[-3:], [[0], [5, 1, 0], [1, 2, 2]])
+
+    def test_wrong_levels(self):
+        for level in [-1, 3, 10 ** 18, -10 ** 18]:
+            self.assertEqual(last(*KEPT, alerts(level)), [-7], level)
+            self.assertEqual(last(alerts(level)), [-7], level)
+
+
+class TellingChangesNothing(unittest.TestCase):
+    def test_asked_again_the_same_is_told(self):
+        asked = [status(), breakers(0), breakers(9), alerts(1), alerts(7)]
+        found = run(*KEPT, *asked, *asked, take(0, "t"))
+        self.assertEqual(found[6:11], found[11:16])
+        self.assertEqual(found[-1], last(*KEPT, take(0, "t")))
+
+
+if __name__ == "__main__":
+    unittest.main()
