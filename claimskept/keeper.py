@@ -1,4 +1,4 @@
-"""The object that holds tables and kept claims, and the calls on it.
+"""The object that holds tables and kept claims, and the calls that change it.
 
 Each call answers a list of whole numbers; a refusal is its number alone.
 """
@@ -11,6 +11,7 @@ from claimskept.trees import is_word, read_tree
 MOST_TABLES = 3
 MOST_CLAIMS = 12
 MOST_CLAIM_BYTES = 700
+MOST_STEPS = 10
 LEVELS = (0, 1, 2)
 
 
@@ -21,15 +22,23 @@ class Claim:
         self.tree = tree
 
 
-# What is held is replaced by another value, never changed in place: so an object's
-# earlier state is had again from its values of then.
+# What is held is replaced by another value, never changed in place: so a step that can be undone
+# keeps just the values of then. Breakers and histories stand in the claims' order.
 class Keeper:
     def __init__(self):
         self.tables = {}
         self.claims = []
         self.breakers = []
+        self.histories = []
         self.turns = []
         self.day = 0
+        self.steps = []
+
+
+# Called when a call can't be refused any more and nothing is changed yet.
+def remember(keeper):
+    step = (keeper.tables, keeper.claims, keeper.breakers, keeper.histories, keeper.turns, keeper.day)
+    keeper.steps = (keeper.steps + [step])[-MOST_STEPS:]
 
 
 def hold_table(keeper, table):
@@ -73,6 +82,7 @@ def call_table(keeper, text):
         return [-5]
     if len(keeper.tables) == MOST_TABLES:
         return [-6]
+    remember(keeper)
     hold_table(keeper, table)
     return [len(table.columns), len(table.rows)]
 
@@ -91,8 +101,10 @@ def call_claim(keeper, level, owner, text):
         return [-3]
     if len(keeper.claims) == MOST_CLAIMS:
         return [-6]
+    remember(keeper)
     found = find_breakers(tree, keeper.tables)
     keeper.claims = keeper.claims + [Claim(level, owner, tree)]
+    keeper.histories = keeper.histories + [[]]
     hold_breakers(keeper, keeper.breakers + [found])
     return [len(keeper.claims) - 1, len(found)]
 
@@ -110,6 +122,7 @@ def call_put(keeper, name, text):
         return [-4]
     if len(table.rows) == MOST_ROWS:
         return [-6]
+    remember(keeper)
     hold_table(keeper, Table(name, table.columns, table.rows + (row,)))
     breakers = []
     for claim, before in zip(keeper.claims, keeper.breakers):
@@ -123,6 +136,7 @@ def call_take(keeper, number, name):
     table = keeper.tables[name]
     if number < 0 or number >= len(table.rows):
         return [-4]
+    remember(keeper)
     left = table.rows[:number] + table.rows[number + 1:]
     hold_table(keeper, Table(name, table.columns, left))
     breakers = []
@@ -131,26 +145,23 @@ def call_take(keeper, number, name):
     return [len(left)] + hold_breakers(keeper, breakers)
 
 
-def call_status(keeper):
-    return [len(keeper.claims)] + [len(breakers) for breakers in keeper.breakers]
+def call_day(keeper):
+    remember(keeper)
+    counts = [len(breakers) for breakers in keeper.breakers]
+    keeper.histories = [history + [count] for history, count in zip(keeper.histories, counts)]
+    keeper.day = keeper.day + 1
+    return [keeper.day - 1, len([count for count in counts if count > 0])]
 
 
-def call_breakers(keeper, number):
-    if number < 0 or number >= len(keeper.claims):
-        return [-3]
-    answer = [len(keeper.breakers[number])]
-    for numbers in keeper.breakers[number]:
-        answer.append(len(numbers))
-        answer.extend(numbers)
-    return answer
-
-
-def call_alerts(keeper, level):
-    if level not in LEVELS:
-        return [-7]
-    answer = [0]
-    for number, claim in enumerate(keeper.claims):
-        if claim.level >= level and len(keeper.breakers[number]) > 0:
-            answer[0] += 1
-            answer.extend([number, claim.level])
-    return answer
+def call_undo(keeper):
+    if len(keeper.steps) == 0:
+        return [-9]
+    step = keeper.steps[-1]
+    keeper.tables = step[0]
+    keeper.claims = step[1]
+    keeper.breakers = step[2]
+    keeper.histories = step[3]
+    keeper.turns = step[4]
+    keeper.day = step[5]
+    keeper.steps = keeper.steps[:-1]
+    return [len(keeper.steps)]

@@ -19,6 +19,10 @@ class Table:
             self.places[column[0]] = place
 
 
+def tree_of(table):
+    return ("table", table.name, table.columns) + table.rows
+
+
 def is_kind(tree):
     if not isinstance(tree, tuple) or len(tree) < 2:
         return False

@@ -1,4 +1,4 @@
-"""Texts, and the trees that are read from them.
+"""Texts, the trees that are read from them, and trees written as texts.
 
 A tree is a whole number, a word (a Python text) or a tuple of trees.
 """
@@ -18,6 +18,10 @@ def text_of(numbers):
     for sign in " ()-." + DIGITS + LETTERS:
         signs[ord(sign)] = sign
     return "".join([signs.get(number, "?") for number in numbers])
+
+
+def numbers_of(text):
+    return [ord(sign) for sign in text]
 
 
 def is_word(text):
@@ -72,3 +76,14 @@ def read_tree(text):
     if trees is None or len(trees) != 1:
         return None
     return trees[0]
+
+
+# Trees stand at most as deep as texts that are read, so this calls itself no deeper.
+def written(tree):
+    if isinstance(tree, tuple):
+        return "(" + written_trees(tree) + ")"
+    return str(tree)
+
+
+def written_trees(trees):
+    return " ".join([written(tree) for tree in trees])

@@ -40,6 +40,34 @@ def alerts(level):
     return [6, level]
 
 
+def owned(owner):
+    return [7] + row(owner)
+
+
+def turns():
+    return [8]
+
+
+def day():
+    return [9]
+
+
+def history(number):
+    return [10, number]
+
+
+def drift(number, most):
+    return [11, number, most]
+
+
+def shown(name):
+    return [12] + row(name)
+
+
+def undo():
+    return [13]
+
+
 def split(told):
     found = []
     place = 0
@@ -62,6 +90,27 @@ def run(*calls):
 
 def last(*calls):
     return run(*calls)[-1]
+
+
+def told_turns(*calls):
+    """What turns answers behind these calls: how many there were, and the text."""
+    answer = last(*calls, turns())
+    return answer[0], bytes(answer[1:]).decode("ascii")
+
+
+def told_table(name, *calls):
+    """The text that shown answers behind these calls."""
+    return bytes(last(*calls, shown(name))).decode("ascii")
+
+
+def questions(names, count):
+    """Everything that can be asked of these tables, so many claims, and those that aren't there."""
+    asked = [status(), turns(), owned("ann"), owned("o")]
+    asked.extend(shown(name) for name in names)
+    asked.extend(alerts(level) for level in range(3))
+    for number in range(count + 1):
+        asked.extend([breakers(number), history(number), drift(number, 0)])
+    return asked
 
 
 def padded(text, size):

@@ -3,7 +3,9 @@
 import unittest
 
 from claimskept.claims import answers
-from tests.helper import alerts, breakers, claim, last, put, run, split, status, table, take
+from tests.helper import (
+    alerts, breakers, claim, day, drift, history, last, owned, put, run, shown, split, status, table, take, turns, undo,
+)
 
 CALLS = [
     table("(table t ((n (up 10)) (w (of a b) maybe)) (1 a) (2 ()))"),
@@ -18,7 +20,22 @@ CALLS = [
     breakers(7),
     alerts(0),
     alerts(3),
+    owned("ann"),
+    owned(""),
+    day(),
+    turns(),
+    history(0),
+    history(7),
+    drift(1, 0),
+    drift(1, 1001),
+    shown("t"),
+    shown("u"),
+    undo(),
+    undo(),
+    status(),
 ]
+TURNS = "(0 1 broken) (0 0 broken) (0 1 held) (0 0 held)"
+SHOWN = "(table t ((n (up 10)) (w (of a b) maybe)) (2 ()) (1 b))"
 
 
 def one_list(calls):
@@ -60,8 +77,12 @@ class HandedIn(unittest.TestCase):
         self.assertEqual(answers(calls), wanted)
 
     def test_every_call_begins_a_list(self):
-        wanted = [[1, -1], [1, -7], [1, -3], [1, -3], [1, 0], [1, -3], [1, 0]]
-        for call, answer in zip([table(""), claim(9, "", ""), put("", ""), take(0, ""), status(), breakers(0), alerts(0)], wanted):
+        calls = [table(""), claim(9, "", ""), put("", ""), take(0, ""), status(), breakers(0), alerts(0), owned(""),
+                 turns(), day(), history(0), drift(0, 0), shown(""), undo()]
+        wanted = [[1, -1], [1, -7], [1, -3], [1, -3], [1, 0], [1, -3], [1, 0], [1, 0], [1, 0], [2, 0, 0], [1, -3], [1, -3],
+                  [1, -3], [1, -9]]
+        self.assertEqual([call[0] for call in calls], list(range(14)))
+        for call, answer in zip(calls, wanted):
             self.assertEqual(answers(call), answer)
 
 
@@ -73,7 +94,10 @@ class GivenBack(unittest.TestCase):
 
     def test_how_many_then_they(self):
         self.assertEqual(answers(one_list(CALLS)), [
-            2, 2, 2, 2, 0, 0, 2, 1, 1, 3, 2, 1, 1, 1, -4, 3, 2, 0, 1, 1, -4, 3, 2, 0, 0, 1, 0, 1, -3, 1, 0, 1, -7])
+            2, 2, 2, 2, 0, 0, 2, 1, 1, 3, 2, 1, 1, 1, -4, 3, 2, 0, 1, 1, -4, 3, 2, 0, 0, 1, 0, 1, -3, 1, 0, 1, -7,
+            3, 1, 0, 0, 1, 0, 2, 0, 0,
+            1 + len(TURNS), 4, *TURNS.encode("ascii"), 2, 1, 0, 1, -3, 3, 1, 0, 0, 1, -7,
+            len(SHOWN), *SHOWN.encode("ascii"), 1, -3, 1, 5, 1, 4, 3, 2, 1, 0])
 
     def test_below_0_only_in_a_refusal(self):
         for answer in split(answers(one_list(CALLS))):
@@ -82,6 +106,8 @@ class GivenBack(unittest.TestCase):
     def test_a_call_of_no_number_that_is_known(self):
         with self.assertRaises(ValueError):
             answers([99])
+        with self.assertRaises(ValueError):
+            answers([14])
 
 
 class Limits(unittest.TestCase):
@@ -92,6 +118,8 @@ class Limits(unittest.TestCase):
             self.assertEqual(last(claim(0, "o", [byte] * 6000)), [-1])
             self.assertEqual(last(put([byte] * 6000, [byte] * 6000)), [-3])
             self.assertEqual(last(take(0, [byte] * 6000)), [-3])
+            self.assertEqual(last(owned([byte] * 6000)), [0])
+            self.assertEqual(last(shown([byte] * 6000)), [-3])
 
     def test_the_greatest_whole_numbers(self):
         for number in [10 ** 18, -10 ** 18]:
@@ -99,6 +127,10 @@ class Limits(unittest.TestCase):
             self.assertEqual(last(CALLS[0], take(number, "t")), [-4])
             self.assertEqual(last(CALLS[0], CALLS[1], breakers(number)), [-3])
             self.assertEqual(last(alerts(number)), [-7])
+            self.assertEqual(last(CALLS[0], CALLS[1], day(), history(number)), [-3])
+            self.assertEqual(last(CALLS[0], CALLS[1], day(), drift(number, 0)), [-3])
+            self.assertEqual(last(CALLS[0], CALLS[1], day(), drift(0, number)), [-7])
+            self.assertEqual(last(drift(number, number)), [-7])
 
     def test_60_calls(self):
         self.assertEqual(run(*[status() for number in range(60)]), [[0]] * 60)

@@ -3,13 +3,20 @@
 A plain model, which finds all breakers from nothing by the document's words, is asked beside the program.
 """
 
+import copy
 import itertools
 import random
 import unittest
 
-from claimskept.keeper import Keeper, call_claim, call_put, call_table, call_take
-from tests.helper import alerts, breakers, claim, put, run, status, table, take
+from claimskept.keeper import Keeper, call_claim, call_day, call_put, call_table, call_take, call_undo
+from tests.helper import (
+    alerts, breakers, claim, day, drift, history, owned, put, questions, run, shown, status, table, take, text_numbers,
+    turns, undo,
+)
 
+# The numbers of the calls that can be undone.
+STEPS = (0, 1, 2, 3, 9)
+ALL_QUESTIONS = questions("tu", 12)
 COLUMNS = {"t": [("n", 4, False), ("m", 3, True), ("w", "abc", False)], "u": [("k", 4, True), ("v", "abd", True)]}
 
 
@@ -161,30 +168,61 @@ class Story:
         self.tables = {}
         self.claims = []
         self.state = []
+        self.ends = []
+        self.turns = []
+        self.day = 0
+        self.earlier = []
+
+    def keep_step(self):
+        held = (self.tables, self.claims, self.state, self.ends, self.turns, self.day)
+        self.earlier = (self.earlier + [copy.deepcopy(held)])[-10:]
 
     def add(self, call, answer):
         self.calls.append(call)
         self.wanted.append(answer)
 
     def add_table(self, name):
+        self.keep_step()
         self.tables[name] = [self.maker.row(name) for k in range(self.maker.chance.randrange(6))]
         self.add(table(table_text(name, self.tables[name])), [len(COLUMNS[name]), len(self.tables[name])])
 
     def add_claim(self):
+        self.keep_step()
         tree = self.maker.claim()
         level = self.maker.chance.randrange(3)
-        self.claims.append((level, tree))
-        self.state.append(model_breakers(tree, self.tables))
-        self.add(claim(level, "o", written(tree)), [len(self.claims) - 1, len(self.state[-1])])
+        owner = self.maker.chance.choice(["ann", "o"])
+        self.claims.append((level, tree, owner))
+        self.ends.append([])
+        self.state.append([])
+        self.turned()
+        self.add(claim(level, owner, written(tree)), [len(self.claims) - 1, len(self.state[-1])])
 
     def turned(self):
         before = [len(sets) > 0 for sets in self.state]
-        self.state = [model_breakers(tree, self.tables) for level, tree in self.claims]
+        self.state = [model_breakers(tree, self.tables) for level, tree, owner in self.claims]
         behind = [len(sets) > 0 for sets in self.state]
-        turns = list(zip(before, behind))
-        return [turns.count((False, True)), turns.count((True, False))]
+        for number in range(len(self.claims)):
+            if before[number] != behind[number]:
+                self.turns.append("(%d %d %s)" % (self.day, number, "broken" if behind[number] else "held"))
+        both = list(zip(before, behind))
+        return [both.count((False, True)), both.count((True, False))]
+
+    def add_day(self):
+        self.keep_step()
+        for ends, sets in zip(self.ends, self.state):
+            ends.append(len(sets))
+        self.day += 1
+        self.add(day(), [self.day - 1, sum(1 for sets in self.state if sets)])
+
+    def add_undo(self):
+        if not self.earlier:
+            self.add(undo(), [-9])
+            return
+        self.tables, self.claims, self.state, self.ends, self.turns, self.day = self.earlier.pop()
+        self.add(undo(), [len(self.earlier)])
 
     def add_change(self):
+        self.keep_step()
         name = self.maker.chance.choice("tu")
         rows = self.tables[name]
         if rows and self.maker.chance.random() < 0.5:
@@ -198,14 +236,33 @@ class Story:
 
     def add_question(self):
         self.add(status(), [len(self.state)] + [len(sets) for sets in self.state])
-        number = self.maker.chance.randrange(len(self.state))
+        self.add(turns(), [len(self.turns)] + text_numbers(" ".join(self.turns[-100:])))
+        name = self.maker.chance.choice("tu")
+        told = text_numbers(table_text(name, self.tables[name])) if name in self.tables else [-3]
+        self.add(shown(name), told)
+        owner = self.maker.chance.choice(["ann", "o"])
+        pairs = [(k, len(sets)) for k, sets in enumerate(self.state) if self.claims[k][2] == owner]
+        self.add(owned(owner), [len(pairs)] + [number for pair in pairs for number in pair])
+        self.add_question_of_one(self.maker.chance.randrange(max(1, len(self.state))))
+        level = self.maker.chance.randrange(3)
+        broken = [(k, self.claims[k][0]) for k, sets in enumerate(self.state) if sets and self.claims[k][0] >= level]
+        self.add(alerts(level), [len(broken)] + [number for pair in broken for number in pair])
+
+    def add_question_of_one(self, number):
+        if number >= len(self.state):
+            for call in [breakers(number), history(number), drift(number, 3)]:
+                self.add(call, [-3])
+            return
         told = [len(self.state[number])]
         for rows in self.state[number]:
             told.extend([len(rows)] + rows)
         self.add(breakers(number), told)
-        level = self.maker.chance.randrange(3)
-        broken = [(k, self.claims[k][0]) for k, sets in enumerate(self.state) if sets and self.claims[k][0] >= level]
-        self.add(alerts(level), [len(broken)] + [number for pair in broken for number in pair])
+        ends = self.ends[number]
+        self.add(history(number), [len(ends)] + ends)
+        most = self.maker.chance.randrange(3)
+        now = len(self.state[number])
+        close = ends and now <= ends[-1] + most and now >= ends[-1] - most
+        self.add(drift(number, most), [int(close), ends[-1], now] if ends else [-9])
 
 
 def story(seed):
@@ -214,11 +271,35 @@ def story(seed):
     made.add_table("u")
     for k in range(4):
         made.add_claim()
-    while len(made.calls) <= 52:
+    while len(made.calls) < 50:
         if len(made.claims) < 12 and made.maker.chance.random() < 0.2:
             made.add_claim()
         made.add_change()
-        if made.maker.chance.random() < 0.5:
+        if made.maker.chance.random() < 0.2:
+            made.add_day()
+        if len(made.calls) <= 40 and made.maker.chance.random() < 0.3:
+            made.add_question()
+    made.add_question()
+    return made
+
+
+def story_with_undo(seed):
+    """Changes, days and undos as they come, back to the new object too; then everything is asked."""
+    made = Story(seed)
+    pick = made.maker.chance
+    while len(made.calls) < 51:
+        missing = [name for name in "tu" if name not in made.tables]
+        if pick.random() < 0.35:
+            made.add_undo()
+        elif missing:
+            made.add_table(missing[0])
+        elif len(made.claims) < 12 and pick.random() < 0.4:
+            made.add_claim()
+        elif pick.random() < 0.25:
+            made.add_day()
+        else:
+            made.add_change()
+        if len(made.calls) < 42 and pick.random() < 0.15:
             made.add_question()
     made.add_question()
     return made
@@ -227,9 +308,31 @@ def story(seed):
 class AsTheTablesAre(unittest.TestCase):
     def test_every_answer_is_the_models(self):
         for seed in range(300):
-            made = story(seed)
-            for number, (answer, wanted) in enumerate(zip(run(*made.calls), made.wanted)):
-                self.assertEqual(answer, wanted, (seed, number, made.claims))
+            self.check(seed, story(seed))
+
+    def test_every_answer_is_the_models_with_undo(self):
+        for seed in range(300):
+            self.check(seed, story_with_undo(seed))
+
+    def check(self, seed, made):
+        self.assertEqual(len(made.calls), len(made.wanted))
+        for number, (answer, wanted) in enumerate(zip(run(*made.calls), made.wanted)):
+            self.assertEqual(answer, wanted, (seed, number, made.claims))
+
+    def test_undone_calls_are_as_if_they_never_were(self):
+        for seed in range(400, 460):
+            made = story_with_undo(seed)
+            steps = []
+            left = []
+            for call, answer in zip(made.calls, made.wanted):
+                if call[0] in STEPS or call == undo():
+                    steps.append(call)
+                if call[0] in STEPS:
+                    left.append(call)
+                elif call == undo() and answer != [-9]:
+                    left.pop()
+            for asked in ALL_QUESTIONS:
+                self.assertEqual(run(*steps, asked)[-1], run(*left, asked)[-1], (seed, asked))
 
     def test_the_same_as_if_the_claims_came_last(self):
         for seed in range(300, 400):
@@ -238,7 +341,7 @@ class AsTheTablesAre(unittest.TestCase):
             count = min(len(made.claims), 60 - len(changes))
             asked = [breakers(number) for number in range(count)]
             fresh = [table(table_text(name, rows)) for name, rows in made.tables.items()]
-            kept = [claim(level, "o", written(tree)) for level, tree in made.claims]
+            kept = [claim(level, owner, written(tree)) for level, tree, owner in made.claims]
             self.assertEqual(run(*changes, *asked)[-count:], run(*fresh, *kept, *asked)[-count:], seed)
 
 
@@ -279,6 +382,18 @@ class Turns(unittest.TestCase):
                 self.assertEqual(told, [["broken", "held"][k % 2] for k in range(len(told))])
                 self.assertEqual(len(told) % 2 == 1, len(keeper.breakers[number]) > 0)
 
+    def test_by_turns_over_days_and_undos_too(self):
+        for seed in range(40):
+            made = story_with_undo(seed)
+            calls = [call for call in made.calls if call[0] in STEPS or call == undo()]
+            for count in range(1, len(calls) + 1):
+                found = run(*calls[:count], turns(), status())
+                told = bytes(found[-2][1:]).decode("ascii").strip("()").split(") (")
+                for number, broken in enumerate(found[-1][1:]):
+                    own = [turn.split()[2] for turn in told if turn.split()[1:2] == [str(number)]]
+                    self.assertEqual(own, [["broken", "held"][k % 2] for k in range(len(own))], (seed, count))
+                    self.assertEqual(len(own) % 2 == 1, broken > 0, (seed, count))
+
     def test_a_refusal_leaves_no_turn(self):
         call_claim(self.keeper, 0, "o", "(key t (n))")
         for answer in [call_put(self.keeper, "t", "(9)"), call_take(self.keeper, 2, "t"), call_claim(self.keeper, 0, "o", "(key)")]:
@@ -288,15 +403,20 @@ class Turns(unittest.TestCase):
     def test_what_is_held_is_replaced_not_changed(self):
         call_claim(self.keeper, 0, "o", "(key t (n))")
         keeper = self.keeper
-        held = (keeper.tables, keeper.claims, keeper.breakers, keeper.turns)
-        shown = (dict(keeper.tables), list(keeper.claims), [list(sets) for sets in keeper.breakers], list(keeper.turns))
+        call_day(keeper)
+        held = (keeper.tables, keeper.claims, keeper.breakers, keeper.turns, keeper.histories, keeper.steps)
+        told = (dict(keeper.tables), list(keeper.claims), [list(sets) for sets in keeper.breakers], list(keeper.turns),
+                [list(numbers) for numbers in keeper.histories], list(keeper.steps))
         rows = keeper.tables["t"].rows
         call_put(keeper, "t", "(1)")
         call_take(keeper, 0, "t")
         call_take(keeper, 0, "t")
         call_claim(keeper, 0, "o", "(any t (or))")
         call_table(keeper, "(table u ((n (up 5))))")
-        self.assertEqual(held, shown)
+        call_day(keeper)
+        call_undo(keeper)
+        call_day(keeper)
+        self.assertEqual(held, told)
         self.assertEqual(held[0]["t"].rows, rows)
 
 

@@ -1,8 +1,8 @@
-"""Promises 5 and 6: status, breakers and alerts."""
+"""Promises 5 and 6: status, breakers, alerts and owned."""
 
 import unittest
 
-from tests.helper import alerts, breakers, claim, last, put, run, status, table, take
+from tests.helper import alerts, breakers, claim, last, owned, put, run, status, table, take
 
 TABLE = table("(table t ((n (up 10))) (1) (2) (1) (2) (1))")
 KEPT = [
@@ -75,11 +75,49 @@ class Alerts(unittest.TestCase):
             self.assertEqual(last(alerts(level)), [-7], level)
 
 
+class Owned(unittest.TestCase):
+    def test_the_owners_claims_in_order(self):
+        self.assertEqual(last(*KEPT, owned("ann")), [2, 0, 4, 2, 1])
+        self.assertEqual(last(*KEPT, owned("bob")), [1, 1, 2])
+        self.assertEqual(last(*KEPT, owned("cid")), [2, 3, 0, 4, 1])
+
+    def test_an_owner_with_none(self):
+        for owner in ["dan", "an", "annn", "Ann", "ANN", "t", "n"]:
+            self.assertEqual(last(*KEPT, owned(owner)), [0], owner)
+        self.assertEqual(last(owned("ann")), [0])
+
+    def test_an_owner_that_is_no_word(self):
+        for owner in ["", " ", "ann ", " ann", "ann\n", "(ann)", "9", "0", "-", "ann bob", "a" * 21, [0], [255], [97, 0],
+                      [97, 110, 110, 128], [63], [40] * 6000, [97] * 6000]:
+            self.assertEqual(last(*KEPT, owned(owner)), [0], owner)
+
+    def test_owners_with_every_sign_and_the_most_bytes(self):
+        owners = ["a", "Z", "a-.9Z", "a" * 20, "a" * 19 + "b", "b--", "b.."]
+        calls = [TABLE] + [claim(0, owner, "(key t (n))") for owner in owners]
+        for number, owner in enumerate(owners):
+            self.assertEqual(last(*calls, owned(owner)), [1, number, 4], owner)
+
+    def test_12_claims_of_one(self):
+        calls = [TABLE] + [claim(0, "o", "(key t (n))") for number in range(12)]
+        wanted = [12]
+        for number in range(12):
+            wanted.extend([number, 4])
+        self.assertEqual(last(*calls, owned("o")), wanted)
+
+    def test_as_rows_come_and_go(self):
+        found = run(*KEPT, put("t", "(9)"), owned("ann"), take(0, "t"), owned("ann"), owned("bob"))
+        self.assertEqual([found[-4], found[-2], found[-1]], [[2, 0, 4, 2, 0], [2, 0, 2, 2, 0], [1, 1, 3]])
+
+    def test_a_refused_claim_is_nobodys(self):
+        self.assertEqual(last(*KEPT, claim(3, "ann", "(key t (n))"), claim(0, "ann", "(key t (m))"), owned("ann")),
+                         [2, 0, 4, 2, 1])
+
+
 class TellingChangesNothing(unittest.TestCase):
     def test_asked_again_the_same_is_told(self):
-        asked = [status(), breakers(0), breakers(9), alerts(1), alerts(7)]
+        asked = [status(), breakers(0), breakers(9), alerts(1), alerts(7), owned("ann"), owned("")]
         found = run(*KEPT, *asked, *asked, take(0, "t"))
-        self.assertEqual(found[6:11], found[11:16])
+        self.assertEqual(found[6:13], found[13:20])
         self.assertEqual(found[-1], last(*KEPT, take(0, "t")))
 
 

@@ -1,7 +1,8 @@
-"""What is readable: seen through table, put and claim, which answer -1 for what isn't."""
+"""What is readable: seen through table, put and claim, which answer -1 for what isn't; and how trees are written."""
 
 import unittest
 
+from claimskept.trees import read_tree, read_trees, written, written_trees
 from tests.helper import claim, last, padded, put, status, table, take
 
 WIDE = table("(table t ((n (up 1000000) maybe) (w (of a b) maybe)))")
@@ -152,6 +153,17 @@ class Sizes(unittest.TestCase):
         self.assertEqual(last(ROOM, put("", "")), [-3])
         self.assertEqual(last(ROOM, take(0, "")), [-3])
         self.assertEqual(last(status()), [0])
+
+
+class Written(unittest.TestCase):
+    def test_in_the_one_way(self):
+        for text in ["0", "1000000", "w", "a-.9", "()", "(())", "(() ())", "(a (1 ()) b)", "(" * 40 + ")" * 40]:
+            self.assertEqual(written(read_tree(text)), text)
+        self.assertEqual(written(read_tree(" (\na( 1())b  )\n")), "(a (1 ()) b)")
+
+    def test_trees_one_behind_the_other(self):
+        self.assertEqual(written_trees([]), "")
+        self.assertEqual(written_trees(read_trees(" 1(a)\n ()  w ")), "1 (a) () w")
 
 
 if __name__ == "__main__":
